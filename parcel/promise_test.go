@@ -1,0 +1,153 @@
+package parcel_test
+
+import (
+	"bytes"
+	"math/rand"
+	"strings"
+	"testing"
+
+	"parcel/api"
+	"parcel/parcel"
+)
+
+// inRoom: some bytes as a list with spare room behind it, and the whole room, in which the spare bytes are told by a mark.
+func inRoom(data []byte) (list, room []byte) {
+	room = append(bytes.Clone(data), bytes.Repeat([]byte{0xA5}, 700)...)
+	return room[:len(data)], room
+}
+
+// overwrite writes into a list and its spare room.
+func overwrite(list []byte) {
+	whole := list[:cap(list)]
+	for i := range whole {
+		whole[i] ^= 0xFF
+	}
+}
+
+// bodies: a few that are packed in different ways, and one that is too long.
+func bodies() [][]byte {
+	return [][]byte{
+		nil, []byte("a"), []byte("aaaa"), []byte("abcabc"), patternless(128), patternless(129),
+		bytes.Repeat([]byte("a"), 600), patternless(600), bytes.Repeat([]byte("a"), 601),
+	}
+}
+
+// packedLists: a few that Unpack takes and a few that it refuses.
+func packedLists() [][]byte {
+	return [][]byte{
+		nil, []byte("\x00a"), []byte("\x00a\x80\x00"), []byte("\x02abc\xbf\x02\x00z"), append([]byte{127}, patternless(128)...),
+		[]byte("\x00a\x80\x01"), []byte("\x02ab"), []byte("\xff"), []byte(strings.Repeat("\x00a", 601)),
+	}
+}
+
+func TestNothingHandedInIsWrittenInto(t *testing.T) {
+	for _, data := range append(bodies(), packedLists()...) {
+		list, room := inRoom(data)
+		before := bytes.Clone(room)
+		parcel.Sum(list)
+		parcel.Tag("key", list)
+		parcel.Pack(list)
+		parcel.Unpack(list)
+		if !bytes.Equal(room, before) {
+			t.Errorf("P2: what was handed in, %.40q, or the room behind it, was written into", data)
+		}
+	}
+}
+
+// checkFresh: that what came out of data changes nothing else when it is written into, and is not changed from elsewhere.
+func checkFresh(t *testing.T, name string, call func([]byte) ([]byte, api.Errno), data []byte) {
+	list, room := inRoom(data)
+	before := bytes.Clone(room)
+	first, e := call(list)
+	want := bytes.Clone(first)
+	second, f := call(list)
+	if e != f || !bytes.Equal(second, want) {
+		t.Errorf("P2: %s(%.40q) = %q, %d, and then %q, %d", name, data, want, e, second, f)
+	}
+	overwrite(first)
+	if !bytes.Equal(room, before) || !bytes.Equal(second, want) {
+		t.Errorf("P2: %s(%.40q): what came out shares memory", name, data)
+	}
+	third, f := call(list)
+	if e != f || !bytes.Equal(third, want) {
+		t.Errorf("P2: %s(%.40q) = %q, %d behind a change of what came out, want %q, %d", name, data, third, f, want, e)
+	}
+	overwrite(room)
+	call(room[:len(data)])
+	if !bytes.Equal(second, want) || !bytes.Equal(third, want) {
+		t.Errorf("P2: %s(%.40q): what came out has been changed", name, data)
+	}
+}
+
+func TestWhatComesOutIsFresh(t *testing.T) {
+	for _, body := range bodies() {
+		checkFresh(t, "Pack", parcel.Pack, body)
+	}
+	for _, packed := range packedLists() {
+		checkFresh(t, "Unpack", parcel.Unpack, packed)
+	}
+}
+
+// What is answered hangs on the arguments alone: other calls between two equal ones change nothing.
+func TestAnswersHangOnTheArgumentsAlone(t *testing.T) {
+	body := []byte("abcabcabcxyz")
+	packed, _ := parcel.Pack(body)
+	kept := bytes.Clone(packed)
+	sum := parcel.Sum(body)
+	tag, _ := parcel.Tag("key", body)
+	r := rand.New(rand.NewSource(2))
+	for range 500 {
+		other := randomBytes(r, r.Intn(api.MaxBody+50), 4)
+		parcel.Pack(other)
+		parcel.Unpack(other)
+		parcel.Sum(other)
+		parcel.Tag(string(other[:min(len(other), 17)]), other)
+		parcel.Path(string(other))
+		again, e := parcel.Pack(body)
+		if e != api.OK || !bytes.Equal(again, kept) || !bytes.Equal(packed, kept) {
+			t.Fatalf("P2: Pack(%q) = %x, %d, and earlier %x, want %x", body, again, e, packed, kept)
+		}
+		if n := parcel.Sum(body); n != sum {
+			t.Fatalf("P2: Sum(%q) = %d, and earlier %d", body, n, sum)
+		}
+		if n, e := parcel.Tag("key", body); n != tag || e != api.OK {
+			t.Fatalf("P2: Tag(%q) = %d, %d, and earlier %d", body, n, e, tag)
+		}
+	}
+}
+
+func TestErrorsComeAlone(t *testing.T) {
+	if n, e := parcel.Tag("", []byte("abc")); n != 0 || e != api.ErrKey {
+		t.Errorf("P1: Tag = %d besides the error %d", n, e)
+	}
+	if packed, e := parcel.Pack(make([]byte, api.MaxBody+1)); packed != nil || e != api.ErrBig {
+		t.Errorf("P1: Pack = %q besides the error %d", packed, e)
+	}
+	for _, list := range []string{"\x00a\xff", "\x02abc\x02", "\x02abc\x80\x03", strings.Repeat("\x00a", 601)} {
+		if body, e := parcel.Unpack([]byte(list)); body != nil || e == api.OK {
+			t.Errorf("P1: Unpack(%.40q) = %q besides the error %d", list, body, e)
+		}
+	}
+}
+
+// A panic or a call that does not end fails here, whatever is answered.
+func TestEveryCallEnds(t *testing.T) {
+	r := rand.New(rand.NewSource(1))
+	for n := range 3000 {
+		data := randomBytes(r, n%800, 1+r.Intn(256))
+		parcel.Sum(data)
+		parcel.Tag(string(data[:len(data)%20]), data)
+		parcel.Pack(data)
+		parcel.Unpack(data)
+		parcel.Path(string(data))
+	}
+	for _, b := range []byte{0, 1, '/', '.', 'a', 127, 128, 191, 192, 255} {
+		data := bytes.Repeat([]byte{b}, 1000000)
+		parcel.Sum(data)
+		parcel.Tag(string(data), data)
+		parcel.Tag("k", data)
+		parcel.Pack(data)
+		parcel.Unpack(data)
+		parcel.Path(string(data))
+	}
+}
