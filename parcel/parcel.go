@@ -17,10 +17,7 @@ func Tag(key string, data []byte) (int, api.Errno) {
 	if !isKey(key) {
 		return 0, api.ErrKey
 	}
-	h := tagOfText(0, key)
-	h = tagOfBytes(h, data)
-	h = tagOfText(h, key)
-	return h, api.OK
+	return tagOf(key, data), api.OK
 }
 
 // Pack packs a body (P5).
@@ -67,7 +64,25 @@ func Path(path string) api.Errno {
 }
 
 // Build makes a package (P8, P9).
-func Build(entries []api.Entry, c api.Config) ([]byte, api.Errno, string) { return nil, api.OK, "" }
+func Build(entries []api.Entry, c api.Config) ([]byte, api.Errno, string) {
+	e := settingsFault(c)
+	if e != api.OK {
+		return nil, e, ""
+	}
+	if len(entries) > api.MaxEntries {
+		return nil, api.ErrMany, ""
+	}
+	sorted := sortedEntries(entries)
+	e, path := entriesFault(sorted)
+	if e != api.OK {
+		return nil, e, path
+	}
+	p := layPackage(sorted, c)
+	if len(p) > api.MaxPackage {
+		return nil, api.ErrLong, ""
+	}
+	return p, api.OK, ""
+}
 
 // Verify tells what is in a package (P10).
 func Verify(p []byte, key string) ([]api.Entry, api.Config, api.Errno) {

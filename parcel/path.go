@@ -41,3 +41,9 @@ func isPieceByte(b byte) bool {
 	}
 	return b == '.' || b == '-' || b == '_'
 }
+
+// liesUnder tells whether a path lies under another one.
+func liesUnder(path string, other string) bool {
+	n := len(other)
+	return len(path) > n && path[n] == '/' && path[:n] == other
+}

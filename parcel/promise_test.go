@@ -2,6 +2,8 @@ package parcel_test
 
 import (
 	"bytes"
+	"fmt"
+	"math"
 	"math/rand"
 	"strings"
 	"testing"
@@ -123,6 +125,11 @@ func TestErrorsComeAlone(t *testing.T) {
 	if packed, e := parcel.Pack(make([]byte, api.MaxBody+1)); packed != nil || e != api.ErrBig {
 		t.Errorf("P1: Pack = %q besides the error %d", packed, e)
 	}
+	for _, entries := range entryLists()[5:] {
+		if p, e, _ := parcel.Build(entries, api.Config{Key: "k", Align: 1}); p != nil || e == api.OK {
+			t.Errorf("P1: Build of %s= %x besides the error %d", told(entries), p, e)
+		}
+	}
 	for _, list := range []string{"\x00a\xff", "\x02abc\x02", "\x02abc\x80\x03", strings.Repeat("\x00a", 601)} {
 		if body, e := parcel.Unpack([]byte(list)); body != nil || e == api.OK {
 			t.Errorf("P1: Unpack(%.40q) = %q besides the error %d", list, body, e)
@@ -140,6 +147,8 @@ func TestEveryCallEnds(t *testing.T) {
 		parcel.Pack(data)
 		parcel.Unpack(data)
 		parcel.Path(string(data))
+		parcel.Build(make([]api.Entry, n%30), api.Config{Key: "k", Align: n%20 - 1})
+		parcel.Build([]api.Entry{{Path: string(data), Body: data}, {Path: "a", Body: data}}, api.Config{Key: "k", Align: 1 + n%16, Pack: n%3 == 0})
 	}
 	for _, b := range []byte{0, 1, '/', '.', 'a', 127, 128, 191, 192, 255} {
 		data := bytes.Repeat([]byte{b}, 1000000)
@@ -149,5 +158,85 @@ func TestEveryCallEnds(t *testing.T) {
 		parcel.Pack(data)
 		parcel.Unpack(data)
 		parcel.Path(string(data))
+		parcel.Build([]api.Entry{{Path: "a", Body: data}, {Path: string(data)}, {Path: string(data) + "/"}}, api.Config{Key: "k", Align: 3, Pack: true})
+		parcel.Build([]api.Entry{{Path: "a", Body: data}}, api.Config{Key: string(data), Align: math.MinInt, Pack: true})
+		parcel.Build([]api.Entry{{Path: "a", Body: data}}, api.Config{Key: "k", Align: math.MaxInt, Pack: true})
+	}
+	parcel.Build(make([]api.Entry, 1000000), api.Config{Key: "k", Align: 1})
+}
+
+// entriesInRoom: entries as a list with spare room behind it, and behind each body; and all the rooms.
+func entriesInRoom(entries []api.Entry) (list, whole []api.Entry, rooms [][]byte) {
+	for _, e := range entries {
+		body, room := inRoom(e.Body)
+		whole = append(whole, api.Entry{Path: e.Path, Body: body})
+		rooms = append(rooms, room)
+	}
+	for range 30 {
+		whole = append(whole, api.Entry{Path: "spare"})
+	}
+	return whole[:len(entries)], whole, rooms
+}
+
+// entryLists: a few that Build takes, and a few that it refuses.
+func entryLists() [][]api.Entry {
+	return [][]api.Entry{
+		nil, named("b", "a"), named("c", "b", "a", "aa"), letters(20), {sized("b", 600), sized("a", 0), {Path: "c", Body: bytes.Repeat([]byte("a"), 600)}},
+		letters(21), named("b", "A"), named("b", "a", "b"), named("b/a", "b"), {sized("b", 10), sized("a", 601)},
+		{sized("g", 600), sized("f", 600), sized("e", 600), sized("d", 600), sized("c", 600), sized("b", 600), sized("a", 600)},
+	}
+}
+
+// checkBuildFresh: that Build writes into nothing that is handed in, and that what comes out shares nothing with it nor with what comes out later.
+func checkBuildFresh(t *testing.T, entries []api.Entry, c api.Config) {
+	list, whole, rooms := entriesInRoom(entries)
+	before := fmt.Sprintf("%q %q", whole, rooms)
+	first, e, path := parcel.Build(list, c)
+	want := bytes.Clone(first)
+	second, _, _ := parcel.Build(list, c)
+	if !bytes.Equal(second, want) {
+		t.Errorf("P2: Build of %s= %x, and then %x", told(entries), want, second)
+	}
+	overwrite(first)
+	if fmt.Sprintf("%q %q", whole, rooms) != before {
+		t.Errorf("P2: Build of %s: what was handed in, or the room behind it, was written into", told(entries))
+	}
+	third, f, again := parcel.Build(list, c)
+	if f != e || again != path || !bytes.Equal(second, want) || !bytes.Equal(third, want) {
+		t.Errorf("P2: Build of %s= %x, %d, %q behind a change of what came out, want %x, %d, %q", told(entries), third, f, again, want, e, path)
+	}
+	for _, room := range rooms {
+		overwrite(room)
+	}
+	for i := range whole {
+		whole[i].Path = "other"
+	}
+	parcel.Build(list, c)
+	if !bytes.Equal(second, want) || !bytes.Equal(third, want) {
+		t.Errorf("P2: Build of %s: what came out has been changed", told(entries))
+	}
+}
+
+func TestBuildIsFresh(t *testing.T) {
+	for _, entries := range entryLists() {
+		checkBuildFresh(t, entries, api.Config{Key: "k", Align: 1})
+		checkBuildFresh(t, entries, api.Config{Key: "k", Align: 16, Pack: true})
+		checkBuildFresh(t, entries, api.Config{Key: "", Align: 16, Pack: true})
+	}
+}
+
+// Other calls between two equal ones change nothing.
+func TestBuildHangsOnItsArgumentsAlone(t *testing.T) {
+	r := rand.New(rand.NewSource(10))
+	entries := named("c", "a/b", "b", "a/a")
+	c := api.Config{Key: "key", Align: 5, Pack: true}
+	first, _, _ := parcel.Build(entries, c)
+	kept := bytes.Clone(first)
+	for range 500 {
+		parcel.Build(randomEntries(r, 22), randomConfig(r))
+		again, e, path := parcel.Build(entries, c)
+		if e != api.OK || path != "" || !bytes.Equal(again, kept) || !bytes.Equal(first, kept) {
+			t.Fatalf("P2: Build = %x, %d, %q, and earlier %x, want %x", again, e, path, first, kept)
+		}
 	}
 }

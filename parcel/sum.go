@@ -26,6 +26,13 @@ func isKey(key string) bool {
 	return len(key) >= 1 && len(key) <= api.MaxKey
 }
 
+// tagOf is the tag of a key, whether it is one or not, and some bytes.
+func tagOf(key string, data []byte) int {
+	h := tagOfText(0, key)
+	h = tagOfBytes(h, data)
+	return tagOfText(h, key)
+}
+
 // tagStep takes one byte more into a tag.
 func tagStep(h int, b byte) int {
 	return (h*tagFactor + int(b) + 1) % api.Modulus

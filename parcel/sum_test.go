@@ -90,8 +90,8 @@ func slowTag(key string, data []byte) int {
 	for _, b := range []byte(key + string(data) + key) {
 		h.Mul(h, big.NewInt(257))
 		h.Add(h, big.NewInt(int64(b)+1))
+		h.Mod(h, big.NewInt(api.Modulus))
 	}
-	h.Mod(h, big.NewInt(api.Modulus))
 	return int(h.Int64())
 }
 
