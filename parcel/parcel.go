@@ -86,11 +86,23 @@ func Build(entries []api.Entry, c api.Config) ([]byte, api.Errno, string) {
 
 // Verify tells what is in a package (P10).
 func Verify(p []byte, key string) ([]api.Entry, api.Config, api.Errno) {
-	return nil, api.Config{}, api.OK
+	found, e := readPackage(p, key)
+	return found.entries, found.config, e
 }
 
 // Find gives one body out of a package (P11).
-func Find(p []byte, path string, key string) ([]byte, api.Errno) { return nil, api.OK }
+func Find(p []byte, path string, key string) ([]byte, api.Errno) {
+	found, e := readPackage(p, key)
+	if e != api.OK {
+		return nil, e
+	}
+	for i := 0; i < len(found.entries); i++ {
+		if found.entries[i].Path == path {
+			return found.entries[i].Body, api.OK
+		}
+	}
+	return nil, api.ErrNone
+}
 
 // Replace makes the package with an entry more, or in place of the one of its path (P12).
 func Replace(p []byte, e api.Entry, key string) ([]byte, api.Errno, string) { return nil, api.OK, "" }

@@ -130,6 +130,14 @@ func TestErrorsComeAlone(t *testing.T) {
 			t.Errorf("P1: Build of %s= %x besides the error %d", told(entries), p, e)
 		}
 	}
+	for _, p := range [][]byte{nil, make([]byte, 50), make([]byte, 4001), sealed("l", []byte("PL\x01\x00\x00")), sealed("k", []byte("PL\x01\x00\x01\x01a\x00\x00\x02\x00\x02\x00hi\x00\x00\x00\x00"))} {
+		if entries, c, e := parcel.Verify(p, "k"); entries != nil || c != (api.Config{}) || e == api.OK {
+			t.Errorf("P1: Verify(%x) = %s, %+v besides the error %d", p, told(entries), c, e)
+		}
+		if body, e := parcel.Find(p, "a", "k"); body != nil || e == api.OK {
+			t.Errorf("P1: Find(%x) = %q besides the error %d", p, body, e)
+		}
+	}
 	for _, list := range []string{"\x00a\xff", "\x02abc\x02", "\x02abc\x80\x03", strings.Repeat("\x00a", 601)} {
 		if body, e := parcel.Unpack([]byte(list)); body != nil || e == api.OK {
 			t.Errorf("P1: Unpack(%.40q) = %q besides the error %d", list, body, e)
@@ -149,6 +157,11 @@ func TestEveryCallEnds(t *testing.T) {
 		parcel.Path(string(data))
 		parcel.Build(make([]api.Entry, n%30), api.Config{Key: "k", Align: n%20 - 1})
 		parcel.Build([]api.Entry{{Path: string(data), Body: data}, {Path: "a", Body: data}}, api.Config{Key: "k", Align: 1 + n%16, Pack: n%3 == 0})
+		headed := append([]byte{'P', 'L', byte(1 + n%16), byte(n % 2), byte(n % 256)}, data...)
+		for _, p := range [][]byte{data, sealed("k", data), sealed("k", headed)} {
+			parcel.Verify(p, "k")
+			parcel.Find(p, string(data[:len(data)%20]), "k")
+		}
 	}
 	for _, b := range []byte{0, 1, '/', '.', 'a', 127, 128, 191, 192, 255} {
 		data := bytes.Repeat([]byte{b}, 1000000)
@@ -161,6 +174,17 @@ func TestEveryCallEnds(t *testing.T) {
 		parcel.Build([]api.Entry{{Path: "a", Body: data}, {Path: string(data)}, {Path: string(data) + "/"}}, api.Config{Key: "k", Align: 3, Pack: true})
 		parcel.Build([]api.Entry{{Path: "a", Body: data}}, api.Config{Key: string(data), Align: math.MinInt, Pack: true})
 		parcel.Build([]api.Entry{{Path: "a", Body: data}}, api.Config{Key: "k", Align: math.MaxInt, Pack: true})
+		parcel.Verify(data, "k")
+		parcel.Verify(data, string(data))
+		parcel.Find(data, string(data), "k")
+		for _, n := range []int{0, 1, 2, 3, 4, 5, 6, 7, 12, 13, 14, 1000, api.MaxPackage - 8, api.MaxPackage - 7} {
+			p := sealed("k", data[:n])
+			parcel.Verify(p, "k")
+			parcel.Find(p, string(data), "k")
+			p = sealed("k", append([]byte("PL\x01\x01"), data[:n]...))
+			parcel.Verify(p, "k")
+			parcel.Find(p, string(data), "k")
+		}
 	}
 	parcel.Build(make([]api.Entry, 1000000), api.Config{Key: "k", Align: 1})
 }
@@ -238,5 +262,94 @@ func TestBuildHangsOnItsArgumentsAlone(t *testing.T) {
 		if e != api.OK || path != "" || !bytes.Equal(again, kept) || !bytes.Equal(first, kept) {
 			t.Fatalf("P2: Build = %x, %d, %q, and earlier %x, want %x", again, e, path, first, kept)
 		}
+	}
+}
+
+// packages: a few that Verify takes with the key "k", and a few that it refuses.
+func packages() [][]byte {
+	l := [][]byte{nil, []byte("PL\x01\x00\x00"), sealed("l", []byte("PL\x01\x00\x00")), sealed("k", []byte("PL\x00\x00\x00")), make([]byte, 100), make([]byte, api.MaxPackage+1)}
+	for _, entries := range entryLists()[:5] {
+		for _, c := range []api.Config{{Key: "k", Align: 1}, {Key: "k", Align: 16, Pack: true}} {
+			p := slowPackage(entries, c)
+			l = append(l, p, sealed("k", p[:len(p)-9]))
+		}
+	}
+	return l
+}
+
+// checkVerifyFresh: that Verify writes into nothing that is handed in, and that what comes out shares nothing with it, nor with what else comes out.
+func checkVerifyFresh(t *testing.T, p []byte) {
+	list, room := inRoom(p)
+	before := bytes.Clone(room)
+	first, c, e := parcel.Verify(list, "k")
+	want := fmt.Sprintf("%q", first)
+	second, _, _ := parcel.Verify(list, "k")
+	if fmt.Sprintf("%q", second) != want {
+		t.Errorf("P2: Verify(%x) = %s, and then %s", p, want, told(second))
+	}
+	for i := range first {
+		kept := bytes.Clone(first[i].Body)
+		rest := fmt.Sprintf("%q %q", first[:i], first[i+1:])
+		overwrite(first[i].Body)
+		if fmt.Sprintf("%q %q", first[:i], first[i+1:]) != rest {
+			t.Errorf("P2: Verify(%x): the body of %q shares memory with another one", p, first[i].Path)
+		}
+		if len(kept) > 0 && bytes.Equal(first[i].Body, kept) {
+			t.Errorf("P2: Verify(%x): the body of %q could not be written into", p, first[i].Path)
+		}
+	}
+	spare := first[:cap(first)]
+	for i := range spare {
+		spare[i] = api.Entry{Path: "other"}
+	}
+	if !bytes.Equal(room, before) || fmt.Sprintf("%q", second) != want {
+		t.Errorf("P2: Verify(%x): what came out shares memory", p)
+	}
+	third, d, f := parcel.Verify(list, "k")
+	if f != e || d != c || fmt.Sprintf("%q", third) != want {
+		t.Errorf("P2: Verify(%x) = %s, %+v, %d behind a change of what came out, want %s, %+v, %d", p, told(third), d, f, want, c, e)
+	}
+	overwrite(room)
+	parcel.Verify(list, "k")
+	if fmt.Sprintf("%q", second) != want || fmt.Sprintf("%q", third) != want {
+		t.Errorf("P2: Verify(%x): what came out has been changed", p)
+	}
+}
+
+func TestVerifyIsFresh(t *testing.T) {
+	for _, p := range packages() {
+		checkVerifyFresh(t, p)
+	}
+}
+
+func TestFindIsFresh(t *testing.T) {
+	for _, p := range packages() {
+		for _, path := range []string{"a", "b", "z", "spare", "A"} {
+			checkFresh(t, "Find", func(p []byte) ([]byte, api.Errno) { return parcel.Find(p, path, "k") }, p)
+		}
+	}
+}
+
+// What Verify gave is not changed by what Find gave, nor by other calls.
+func TestReadingHangsOnItsArgumentsAlone(t *testing.T) {
+	r := rand.New(rand.NewSource(12))
+	p := slowPackage(named("c", "a/b", "b", "a/a"), api.Config{Key: "key", Align: 5, Pack: true})
+	entries, c, _ := parcel.Verify(p, "key")
+	body, _ := parcel.Find(p, "a/b", "key")
+	for range 500 {
+		d := randomConfig(r)
+		other, _, _ := parcel.Build(randomEntries(r, 10), d)
+		parcel.Verify(other, d.Key)
+		parcel.Find(other, "a", d.Key)
+		again, d, e := parcel.Verify(p, "key")
+		if e != api.OK || d != c || !sameEntries(again, named("a/a", "a/b", "b", "c")) || !sameEntries(again, entries) {
+			t.Fatalf("P2: Verify = %s, %+v, %d, and earlier %s, %+v", told(again), d, e, told(entries), c)
+		}
+		found, e := parcel.Find(p, "a/b", "key")
+		if e != api.OK || string(found) != "a/b" || string(body) != "a/b" {
+			t.Fatalf("P2: Find = %q, %d, and earlier %q", found, e, body)
+		}
+		overwrite(found)
+		overwrite(again[1].Body)
 	}
 }
