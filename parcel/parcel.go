@@ -105,7 +105,26 @@ func Find(p []byte, path string, key string) ([]byte, api.Errno) {
 }
 
 // Replace makes the package with an entry more, or in place of the one of its path (P12).
-func Replace(p []byte, e api.Entry, key string) ([]byte, api.Errno, string) { return nil, api.OK, "" }
+func Replace(p []byte, e api.Entry, key string) ([]byte, api.Errno, string) {
+	found, fault := readPackage(p, key)
+	if fault != api.OK {
+		return nil, fault, ""
+	}
+	entries := entriesBut(e.Path, found.entries)
+	entries = append(entries, e)
+	return Build(entries, found.config)
+}
 
 // Drop makes the package without an entry (P13).
-func Drop(p []byte, path string, key string) ([]byte, api.Errno) { return nil, api.OK }
+func Drop(p []byte, path string, key string) ([]byte, api.Errno) {
+	found, e := readPackage(p, key)
+	if e != api.OK {
+		return nil, e
+	}
+	others := entriesBut(path, found.entries)
+	if len(others) == len(found.entries) {
+		return nil, api.ErrNone
+	}
+	// Fewer entries of a package are neither at fault nor too long: there is nothing for Build to refuse.
+	return layPackage(others, found.config), api.OK
+}

@@ -137,6 +137,21 @@ func TestErrorsComeAlone(t *testing.T) {
 		if body, e := parcel.Find(p, "a", "k"); body != nil || e == api.OK {
 			t.Errorf("P1: Find(%x) = %q besides the error %d", p, body, e)
 		}
+		if q, e, path := parcel.Replace(p, named("A")[0], "k"); q != nil || e == api.OK || path != "" {
+			t.Errorf("P1: Replace(%x) = %x, %q besides the error %d", p, q, path, e)
+		}
+		if q, e := parcel.Drop(p, "a", "k"); q != nil || e == api.OK {
+			t.Errorf("P1: Drop(%x) = %x besides the error %d", p, q, e)
+		}
+	}
+	full := slowPackage(letters(20), api.Config{Key: "k", Align: 1})
+	for _, x := range []api.Entry{sized("a", 0), sized("z", 601)} {
+		if q, e, _ := parcel.Replace(full, x, "k"); q != nil || e == api.OK {
+			t.Errorf("P1: Replace of %q = %x besides the error %d", x.Path, q, e)
+		}
+	}
+	if q, e := parcel.Drop(full, "a", "k"); q != nil || e != api.ErrNone {
+		t.Errorf("P1: Drop = %x besides the error %d", q, e)
 	}
 	for _, list := range []string{"\x00a\xff", "\x02abc\x02", "\x02abc\x80\x03", strings.Repeat("\x00a", 601)} {
 		if body, e := parcel.Unpack([]byte(list)); body != nil || e == api.OK {
@@ -161,8 +176,11 @@ func TestEveryCallEnds(t *testing.T) {
 		for _, p := range [][]byte{data, sealed("k", data), sealed("k", headed)} {
 			parcel.Verify(p, "k")
 			parcel.Find(p, string(data[:len(data)%20]), "k")
+			parcel.Replace(p, api.Entry{Path: string(data[:len(data)%20]), Body: data}, "k")
+			parcel.Drop(p, string(data[:len(data)%20]), "k")
 		}
 	}
+	good := slowPackage(letters(20), api.Config{Key: "k", Align: 1})
 	for _, b := range []byte{0, 1, '/', '.', 'a', 127, 128, 191, 192, 255} {
 		data := bytes.Repeat([]byte{b}, 1000000)
 		parcel.Sum(data)
@@ -177,13 +195,19 @@ func TestEveryCallEnds(t *testing.T) {
 		parcel.Verify(data, "k")
 		parcel.Verify(data, string(data))
 		parcel.Find(data, string(data), "k")
+		parcel.Replace(data, api.Entry{Path: string(data), Body: data}, "k")
+		parcel.Replace(good, api.Entry{Path: string(data), Body: data}, "k")
+		parcel.Replace(good, api.Entry{Path: "a", Body: data}, "k")
+		parcel.Replace(good, api.Entry{Path: "a/" + string(data), Body: data}, string(data))
+		parcel.Drop(data, string(data), string(data))
+		parcel.Drop(good, string(data), "k")
 		for _, n := range []int{0, 1, 2, 3, 4, 5, 6, 7, 12, 13, 14, 1000, api.MaxPackage - 8, api.MaxPackage - 7} {
-			p := sealed("k", data[:n])
-			parcel.Verify(p, "k")
-			parcel.Find(p, string(data), "k")
-			p = sealed("k", append([]byte("PL\x01\x01"), data[:n]...))
-			parcel.Verify(p, "k")
-			parcel.Find(p, string(data), "k")
+			for _, p := range [][]byte{sealed("k", data[:n]), sealed("k", append([]byte("PL\x01\x01"), data[:n]...))} {
+				parcel.Verify(p, "k")
+				parcel.Find(p, string(data), "k")
+				parcel.Replace(p, api.Entry{Path: "a", Body: data[:n]}, "k")
+				parcel.Drop(p, string(data), "k")
+			}
 		}
 	}
 	parcel.Build(make([]api.Entry, 1000000), api.Config{Key: "k", Align: 1})
@@ -351,5 +375,103 @@ func TestReadingHangsOnItsArgumentsAlone(t *testing.T) {
 		}
 		overwrite(found)
 		overwrite(again[1].Body)
+	}
+}
+
+// checkReplaceFresh: that Replace writes into nothing that is handed in, and that what comes out shares nothing with it nor with what comes out later.
+func checkReplaceFresh(t *testing.T, p []byte, x api.Entry) {
+	list, room := inRoom(p)
+	body, bodyRoom := inRoom(x.Body)
+	e := api.Entry{Path: x.Path, Body: body}
+	before, bodyBefore := bytes.Clone(room), bytes.Clone(bodyRoom)
+	first, fault, path := parcel.Replace(list, e, "k")
+	want := bytes.Clone(first)
+	second, _, _ := parcel.Replace(list, e, "k")
+	if !bytes.Equal(second, want) {
+		t.Errorf("P2: Replace(%x, %q) = %x, and then %x", p, x.Path, want, second)
+	}
+	overwrite(first)
+	if !bytes.Equal(room, before) || !bytes.Equal(bodyRoom, bodyBefore) {
+		t.Errorf("P2: Replace(%x, %q): what was handed in, or the room behind it, was written into", p, x.Path)
+	}
+	third, f, again := parcel.Replace(list, e, "k")
+	if f != fault || again != path || !bytes.Equal(second, want) || !bytes.Equal(third, want) {
+		t.Errorf("P2: Replace(%x, %q) = %x, %d, %q behind a change of what came out, want %x, %d, %q", p, x.Path, third, f, again, want, fault, path)
+	}
+	overwrite(room)
+	overwrite(bodyRoom)
+	parcel.Replace(list, e, "k")
+	if !bytes.Equal(second, want) || !bytes.Equal(third, want) {
+		t.Errorf("P2: Replace(%x, %q): what came out has been changed", p, x.Path)
+	}
+}
+
+func TestReplaceIsFresh(t *testing.T) {
+	for _, p := range packages() {
+		for _, x := range []api.Entry{sized("a", 0), sized("a", 50), sized("b", 600), sized("new", 30), {Path: "new", Body: bytes.Repeat([]byte("n"), 600)}, sized("A", 10), sized("b/c", 10), sized("z", 601)} {
+			checkReplaceFresh(t, p, x)
+		}
+	}
+}
+
+func TestDropIsFresh(t *testing.T) {
+	for _, p := range packages() {
+		for _, path := range []string{"a", "b", "z", "not-there", "A"} {
+			checkFresh(t, "Drop", func(p []byte) ([]byte, api.Errno) { return parcel.Drop(p, path, "k") }, p)
+		}
+	}
+}
+
+// An entry whose body is a part of the package itself, or of what Verify gave of it, is as good as any other.
+func TestReplaceWithAPartOfThePackage(t *testing.T) {
+	c := api.Config{Key: "k", Align: 8, Pack: true}
+	p := slowPackage(named("a", "b", "c"), c)
+	kept := bytes.Clone(p)
+	want := slowPackage([]api.Entry{{Path: "a", Body: bytes.Clone(p[3:20])}, {Path: "b", Body: []byte("b")}, {Path: "c", Body: []byte("c")}}, c)
+	q, e, _ := parcel.Replace(p, api.Entry{Path: "a", Body: p[3:20]}, "k")
+	if e != api.OK || !bytes.Equal(q, want) || !bytes.Equal(p, kept) {
+		t.Errorf("P2, P12: Replace with a part of the package = %x, %d, want %x", q, e, want)
+	}
+	overwrite(q)
+	if !bytes.Equal(p, kept) {
+		t.Errorf("P2: Replace gave a part of what was handed in")
+	}
+	entries, _, _ := parcel.Verify(p, "k")
+	q, e, _ = parcel.Replace(p, api.Entry{Path: "a", Body: entries[1].Body}, "k")
+	overwrite(q)
+	if e != api.OK || !sameEntries(entries, named("a", "b", "c")) {
+		t.Errorf("P2: Replace gave a part of what Verify gave: %s, %d", told(entries), e)
+	}
+}
+
+// What the calls gave is changed by no later call, nor by a change of what another one gave.
+func TestEditsHangOnTheirArgumentsAlone(t *testing.T) {
+	r := rand.New(rand.NewSource(15))
+	c := api.Config{Key: "key", Align: 5, Pack: true}
+	p := slowPackage(named("c", "a/b", "b", "a/a"), c)
+	x := api.Entry{Path: "b", Body: []byte("another body")}
+	replaced, _, _ := parcel.Replace(p, x, "key")
+	dropped, _ := parcel.Drop(p, "b", "key")
+	keptReplaced := slowPackage(append(named("c", "a/b", "a/a"), x), c)
+	keptDropped := slowPackage(named("c", "a/b", "a/a"), c)
+	for range 500 {
+		d := randomConfig(r)
+		other, _, _ := parcel.Build(randomEntries(r, 10), d)
+		q, _, _ := parcel.Replace(other, api.Entry{Path: randomPath(r), Body: randomBytes(r, r.Intn(100), 4)}, d.Key)
+		overwrite(q)
+		q, _ = parcel.Drop(other, randomPath(r), d.Key)
+		overwrite(q)
+		entries, _, _ := parcel.Verify(p, "key")
+		overwrite(entries[2].Body)
+		q, e, path := parcel.Replace(p, x, "key")
+		if e != api.OK || path != "" || !bytes.Equal(q, keptReplaced) || !bytes.Equal(replaced, keptReplaced) {
+			t.Fatalf("P2: Replace = %x, %d, %q, and earlier %x, want %x", q, e, path, replaced, keptReplaced)
+		}
+		overwrite(q)
+		q, e = parcel.Drop(p, "b", "key")
+		if e != api.OK || !bytes.Equal(q, keptDropped) || !bytes.Equal(dropped, keptDropped) {
+			t.Fatalf("P2: Drop = %x, %d, and earlier %x, want %x", q, e, dropped, keptDropped)
+		}
+		overwrite(q)
 	}
 }
